@@ -18,9 +18,9 @@ import (
 // A few more lines than 60 may stand where a function reads better whole.
 const maxLines = 64
 
-// calls: which of the project's packages each layer calls, in the order of the layers.
+// calls: which of the project's packages each layer calls, in the order of the layers; behind them what is given and what the tests share.
 func calls() (layers []string, of map[string][]string) {
-	of = map[string][]string{"api": nil}
+	of = map[string][]string{"api": nil, "trial": {"api"}}
 	for _, row := range strings.Split(`safeint: api
 scale: api
 graph: api
@@ -49,7 +49,7 @@ shell: api safeint mean text desk`, "\n") {
 		layers = append(layers, name)
 		of[name] = strings.Fields(called)
 	}
-	return append(layers, "api"), of
+	return append(layers, "api", "trial"), of
 }
 
 // library: the packages of the language's library that the program may import.

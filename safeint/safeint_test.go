@@ -8,6 +8,7 @@ import (
 
 	"compass/api"
 	"compass/safeint"
+	"compass/trial"
 )
 
 // edges: numbers about which sums, products and signs turn.
@@ -27,12 +28,9 @@ func edges() []int64 {
 // scattered: as many numbers of all lengths, the same in each run.
 func scattered(count int) []int64 {
 	list := make([]int64, count)
-	state := uint64(2463534242)
+	row := trial.NewScatter(9)
 	for i := range list {
-		state ^= state << 13
-		state ^= state >> 7
-		state ^= state << 17
-		list[i] = int64(state) >> (i % 64)
+		list[i] = int64(row.Next()) >> (i % 64)
 	}
 	return list
 }

@@ -8,6 +8,7 @@ import (
 
 	"compass/api"
 	"compass/scale"
+	"compass/trial"
 )
 
 var (
@@ -16,17 +17,6 @@ var (
 	zero   = 0.0
 	minus0 = math.Copysign(0, -1)
 )
-
-// scatter: a row of 64 bits each, the same in each run.
-func scatter() func() uint64 {
-	state := uint64(88172645463325252)
-	return func() uint64 {
-		state ^= state << 13
-		state ^= state >> 7
-		state ^= state << 17
-		return state
-	}
-}
 
 // alike: the same bits, so that -0 isn't +0.
 func alike(a, b float64) bool { return math.Float64bits(a) == math.Float64bits(b) }
@@ -112,7 +102,7 @@ func TestP2_1AdmitRefuses(t *testing.T) {
 
 // TestP2_1AdmitIsExact: each number times 2^e is its label, and at a greater e some wouldn't be whole.
 func TestP2_1AdmitIsExact(t *testing.T) {
-	next := scatter()
+	next := trial.NewScatter(0).Next
 	for round := range 4000 {
 		labels := make([]float64, 1+next()%5)
 		base := int(next()%2000) - 1040
@@ -216,7 +206,7 @@ func TestP2_2Back(t *testing.T) {
 }
 
 func TestP2_2BackIsNearest(t *testing.T) {
-	next := scatter()
+	next := trial.NewScatter(0).Next
 	check := func(n int64, e int) {
 		want, _ := times(n, e).Float64()
 		if n == 0 {
@@ -283,7 +273,7 @@ func TestP2_3Quotient(t *testing.T) {
 }
 
 func TestP2_3QuotientIsNearest(t *testing.T) {
-	next := scatter()
+	next := trial.NewScatter(0).Next
 	check := func(num, den int64) {
 		if den == 0 {
 			return

@@ -1,0 +1,128 @@
+// Package trial holds what the tests of several layers need: scattered numbers, graphs made of them, wrong graphs, and guards of memory.
+package trial
+
+import (
+	"iter"
+	"slices"
+
+	"compass/api"
+)
+
+// Scatter is a row of numbers that look scattered and are the same in each run.
+type Scatter struct{ state uint64 }
+
+// NewScatter: a row of its own for each seed.
+func NewScatter(seed uint64) *Scatter { return &Scatter{88172645463325252 ^ seed<<1} }
+
+// Next: 64 bits.
+func (s *Scatter) Next() uint64 {
+	s.state ^= s.state << 13
+	s.state ^= s.state >> 7
+	s.state ^= s.state << 17
+	return s.state
+}
+
+// Below: a number from 0 on, below n.
+func (s *Scatter) Below(n int) int { return int(s.Next() >> 11 % uint64(n)) }
+
+// Between: a number from least to most.
+func (s *Scatter) Between(least, most int) int { return least + s.Below(most-least+1) }
+
+// Edge: an edge of a right graph of so many nodes, at times with labels at their limits.
+func (s *Scatter) Edge(nodes int) api.Edge {
+	e := api.Edge{From: s.Below(nodes), To: s.Below(nodes)}
+	e.Cap = int64(s.Between(0, api.MaxLabel))
+	e.Cost = int64(s.Between(-api.MaxLabel, api.MaxLabel))
+	switch s.Below(8) {
+	case 0:
+		e.Cap, e.Cost = api.MaxLabel, -api.MaxLabel
+	case 1:
+		e.Cap, e.Cost = 0, api.MaxLabel
+	}
+	return e
+}
+
+// Graph: a right graph of so many nodes and edges.
+func (s *Scatter) Graph(nodes, edges int) api.Graph {
+	g := api.Graph{Nodes: nodes}
+	for range edges {
+		g.Edges = append(g.Edges, s.Edge(nodes))
+	}
+	return g
+}
+
+// AllGraphs: each graph of so many nodes and edges, with labels of 0. One that is handed over is nobody else's.
+func AllGraphs(nodes, edges int) iter.Seq[api.Graph] {
+	count := 1
+	for range edges {
+		count *= nodes * nodes
+	}
+	return func(take func(api.Graph) bool) {
+		for number := range count {
+			g := api.Graph{Nodes: nodes}
+			for range edges {
+				ends := number % (nodes * nodes)
+				number /= nodes * nodes
+				g.Edges = append(g.Edges, api.Edge{From: ends / nodes, To: ends % nodes})
+			}
+			if !take(g) {
+				return
+			}
+		}
+	}
+}
+
+// Wrong is a graph that isn't right, and what is wrong with it.
+type Wrong struct {
+	Graph api.Graph
+	Fault api.Fault
+}
+
+// WrongGraphs: a graph of each kind that graph.Check refuses, with the faults that others are named ahead of.
+func WrongGraphs() []Wrong {
+	const big, small = 1<<63 - 1, -1 << 63
+	over := make([]api.Edge, api.MaxEdges+1)
+	right := api.Edge{From: 1, To: 0, Cap: 1, Cost: 1}
+	list := []Wrong{
+		{api.Graph{Nodes: -1}, api.Fault{Code: api.ErrSize}},
+		{api.Graph{Nodes: small}, api.Fault{Code: api.ErrSize}},
+		{api.Graph{Nodes: api.MaxNodes + 1}, api.Fault{Code: api.ErrSize}},
+		{api.Graph{Nodes: big, Edges: []api.Edge{right}}, api.Fault{Code: api.ErrSize}},
+		{api.Graph{Nodes: 1, Edges: over}, api.Fault{Code: api.ErrSize}},
+		{api.Graph{Nodes: 0, Edges: over}, api.Fault{Code: api.ErrSize}},
+		{api.Graph{Nodes: -1, Edges: []api.Edge{{From: -1, Cap: -1}}}, api.Fault{Code: api.ErrSize}},
+		{api.Graph{Nodes: 0, Edges: []api.Edge{{}}}, api.Fault{Code: api.ErrNode}},
+	}
+	refuse := func(code api.Errno, e api.Edge) {
+		label := api.Edge{Cap: -1}
+		list = append(list,
+			Wrong{api.Graph{Nodes: 2, Edges: []api.Edge{e, label, {From: 2}}}, api.Fault{Code: code}},
+			Wrong{api.Graph{Nodes: 2, Edges: []api.Edge{right, {}, e, label, {To: 2}}}, api.Fault{Code: code, At: 2}})
+	}
+	for _, v := range []int{-1, 2, 3, big, small} {
+		refuse(api.ErrNode, api.Edge{From: v})
+		refuse(api.ErrNode, api.Edge{To: v})
+		refuse(api.ErrNode, api.Edge{From: v, To: v, Cap: -1, Cost: small})
+	}
+	for _, label := range []int64{api.MaxLabel + 1, big, small, -api.MaxLabel - 1} {
+		refuse(api.ErrLabel, api.Edge{Cap: label})
+		refuse(api.ErrLabel, api.Edge{From: 1, Cost: label})
+	}
+	refuse(api.ErrLabel, api.Edge{Cap: -1, To: 1})
+	return list
+}
+
+// Watched: a copy of a list, with spare room behind it, and a function that says whether both are as they were.
+func Watched[T comparable](list []T, room T) (watched []T, same func() bool) {
+	whole := append(slices.Clone(list), room, room, room)
+	before := slices.Clone(whole)
+	return whole[:len(list)], func() bool { return slices.Equal(whole, before) }
+}
+
+// Spoil writes over a list and its spare room.
+func Spoil[T any](list []T, with T) {
+	whole := list[:cap(list)]
+	for i := range whole {
+		whole[i] = with
+	}
+}
