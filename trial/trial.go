@@ -1,4 +1,4 @@
-// Package trial holds what the tests of several layers need: scattered numbers, graphs made of them, wrong graphs, and guards of memory.
+// Package trial holds what the tests of several layers need: scattered numbers, graphs made of them, all small lists and graphs, wrong graphs, and guards of memory.
 package trial
 
 import (
@@ -70,6 +70,68 @@ func AllGraphs(nodes, edges int) iter.Seq[api.Graph] {
 			}
 		}
 	}
+}
+
+// Lists: each list of so many numbers from least to most. One that is handed over is nobody else's.
+func Lists[T int | int64](length int, least, most T) iter.Seq[[]T] {
+	return func(take func([]T) bool) {
+		list := slices.Repeat([]T{least}, length)
+		for take(slices.Clone(list)) {
+			at := 0
+			for at < length && list[at] == most {
+				list[at] = least
+				at++
+			}
+			if at == length {
+				return
+			}
+			list[at]++
+		}
+	}
+}
+
+// Sides: each list of so many bools. One that is handed over is nobody else's.
+func Sides(length int) iter.Seq[[]bool] {
+	return func(take func([]bool) bool) {
+		for number := range 1 << length {
+			side := make([]bool, length)
+			for v := range side {
+				side[v] = number>>v&1 == 1
+			}
+			if !take(side) {
+				return
+			}
+		}
+	}
+}
+
+// Subsets: each list of rising numbers from 0 on, below n. One that is handed over is nobody else's.
+func Subsets(n int) iter.Seq[[]int] {
+	return func(take func([]int) bool) {
+		for side := range Sides(n) {
+			var list []int
+			for v, in := range side {
+				if in {
+					list = append(list, v)
+				}
+			}
+			if !take(list) {
+				return
+			}
+		}
+	}
+}
+
+// Small: a right graph of so many nodes and edges, with capacities from 0 to mostCap and costs from leastCost to mostCost.
+func (s *Scatter) Small(nodes, edges, mostCap, leastCost, mostCost int) api.Graph {
+	g := api.Graph{Nodes: nodes}
+	for range edges {
+		e := api.Edge{From: s.Below(nodes), To: s.Below(nodes)}
+		e.Cap = int64(s.Between(0, mostCap))
+		e.Cost = int64(s.Between(leastCost, mostCost))
+		g.Edges = append(g.Edges, e)
+	}
+	return g
 }
 
 // Wrong is a graph that isn't right, and what is wrong with it.
