@@ -134,6 +134,19 @@ func (s *Scatter) Small(nodes, edges, mostCap, leastCost, mostCost int) api.Grap
 	return g
 }
 
+// Sided: a right graph of so many nodes and edges, each edge between a node below left and one from left on, with costs from leastCost to mostCost.
+func (s *Scatter) Sided(nodes, left, edges, leastCost, mostCost int) api.Graph {
+	g := s.Small(nodes, edges, 1, leastCost, mostCost)
+	for i := range g.Edges {
+		e := &g.Edges[i]
+		e.From, e.To = s.Below(left), s.Between(left, nodes-1)
+		if s.Below(2) == 0 {
+			e.From, e.To = e.To, e.From
+		}
+	}
+	return g
+}
+
 // Wrong is a graph that isn't right, and what is wrong with it.
 type Wrong struct {
 	Graph api.Graph
