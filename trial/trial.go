@@ -72,6 +72,27 @@ func AllGraphs(nodes, edges int) iter.Seq[api.Graph] {
 	}
 }
 
+// SimpleGraphs: each graph of so many nodes without loops and with one edge at most between two, with labels of 0. One that is handed over is nobody else's.
+func SimpleGraphs(nodes int) iter.Seq[api.Graph] {
+	var pairs []api.Edge
+	for v := range nodes {
+		for u := range v {
+			pairs = append(pairs, api.Edge{From: u, To: v})
+		}
+	}
+	return func(take func(api.Graph) bool) {
+		for list := range Subsets(len(pairs)) {
+			g := api.Graph{Nodes: nodes}
+			for _, i := range list {
+				g.Edges = append(g.Edges, pairs[i])
+			}
+			if !take(g) {
+				return
+			}
+		}
+	}
+}
+
 // Lists: each list of so many numbers from least to most. One that is handed over is nobody else's.
 func Lists[T int | int64](length int, least, most T) iter.Seq[[]T] {
 	return func(take func([]T) bool) {
